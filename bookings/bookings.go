@@ -4,11 +4,14 @@ package bookings
 import (
 	"bookings/api"
 	"bookings/calendar"
+	"bookings/desk"
 	"bookings/lines"
 )
 
 // Desk is some things, with what is booked, held and waits.
-type Desk struct{}
+type Desk struct {
+	kept *desk.Desk
+}
 
 // Day tells a date's number (P3).
 func Day(year int, month int, day int) (int, api.Errno) {
@@ -30,7 +33,15 @@ func Plain(line string) (string, api.Errno, int) {
 }
 
 // New makes a desk without things (P5).
-func New() *Desk { return nil }
+func New() *Desk {
+	return &Desk{kept: desk.New()}
+}
 
 // Do does what a line says (P5 to P10).
-func (d *Desk) Do(line string) api.Reply { return api.Reply{} }
+func (d *Desk) Do(line string) api.Reply {
+	read, err, at := lines.Read(line)
+	if err != api.OK {
+		return api.Reply{Err: err, At: at}
+	}
+	return d.kept.Do(read)
+}

@@ -1,0 +1,135 @@
+// Package desk: what a desk keeps, and what each line does to it.
+package desk
+
+import (
+	"strings"
+
+	"bookings/api"
+	"bookings/lines"
+)
+
+// Desk is some things with what is booked of them, at a time.
+type Desk struct {
+	now     int
+	given   int // how many numbers were given away: the last one
+	things  map[string]*thing
+	entries map[int]*entry
+}
+
+// New gives a desk without things, at the time 0.
+func New() *Desk {
+	return &Desk{things: map[string]*thing{}, entries: map[int]*entry{}}
+}
+
+// Do does what a line says, or answers an error and changes nothing.
+func (d *Desk) Do(line lines.Line) api.Reply {
+	switch l := line.(type) {
+	case lines.Thing:
+		return d.thing(l)
+	case lines.Book:
+		return d.book(l)
+	case lines.Cancel:
+		return d.cancel(l)
+	case lines.List:
+		return d.list(l)
+	case lines.Peak:
+		return d.peak(l)
+	case lines.Find:
+		return d.find(l)
+	case lines.Clock:
+		return api.Reply{N: d.now}
+	}
+	// The kinds of lines that are not built yet answer nothing.
+	return api.Reply{}
+}
+
+func (d *Desk) thing(l lines.Thing) api.Reply {
+	if d.things[l.Name] != nil {
+		return refused(api.ErrTwice)
+	}
+	if len(d.things) >= api.MaxThings {
+		return refused(api.ErrFull)
+	}
+	// The name is a piece of the text that was read, and that is not to be kept.
+	name := strings.Clone(l.Name)
+	d.things[name] = &thing{name: name, units: l.Units}
+	return api.Reply{}
+}
+
+func (d *Desk) book(l lines.Book) api.Reply {
+	of, err := d.asked(l.Name, l.Units, l.Span)
+	if err != api.OK {
+		return refused(err)
+	}
+	if d.given >= api.MaxId {
+		return refused(api.ErrFull)
+	}
+	booked := &entry{id: d.given + 1, of: of, units: l.Units, spans: []api.Span{l.Span}}
+	if !of.take(booked) {
+		return refused(api.ErrBusy)
+	}
+	d.given = booked.id
+	d.entries[booked.id] = booked
+	return api.Reply{N: booked.id}
+}
+
+func (d *Desk) cancel(l lines.Cancel) api.Reply {
+	gone := d.entries[l.Id]
+	if gone == nil {
+		return refused(api.ErrId)
+	}
+	gone.of.release(gone)
+	delete(d.entries, gone.id)
+	return api.Reply{}
+}
+
+func (d *Desk) list(l lines.List) api.Reply {
+	span := l.Span
+	if !l.Within {
+		span = api.Span{From: 0, To: api.Horizon}
+	}
+	of, err := d.asked(l.Name, 0, span)
+	if err != api.OK {
+		return refused(err)
+	}
+	return api.Reply{Entries: of.list(span)}
+}
+
+func (d *Desk) peak(l lines.Peak) api.Reply {
+	of, err := d.asked(l.Name, 0, l.Span)
+	if err != api.OK {
+		return refused(err)
+	}
+	return api.Reply{N: of.taken.Most(l.Span)}
+}
+
+func (d *Desk) find(l lines.Find) api.Reply {
+	of, err := d.asked(l.Name, l.Units, l.Span)
+	if err != api.OK {
+		return refused(err)
+	}
+	start, found := of.taken.Room(l.Span, l.Minutes, of.units-l.Units)
+	if !found {
+		return api.Reply{N: -1}
+	}
+	return api.Reply{N: start}
+}
+
+// asked gives the thing of which a line asks for so many units over a span (0, if it names none),
+// or the error that comes first.
+func (d *Desk) asked(name string, units int, span api.Span) (*thing, api.Errno) {
+	of := d.things[name]
+	switch {
+	case of == nil:
+		return nil, api.ErrName
+	case units > of.units:
+		return nil, api.ErrUnits
+	case span.From >= span.To:
+		return nil, api.ErrTime
+	}
+	return of, api.OK
+}
+
+func refused(err api.Errno) api.Reply {
+	return api.Reply{Err: err}
+}
