@@ -1,59 +1,87 @@
 package bookings_test
 
 import (
+	"cmp"
 	"fmt"
 	"math/rand"
 	"slices"
+	"strconv"
 	"strings"
 	"testing"
+	"time"
 
 	"bookings/api"
 	"bookings/bookings"
 )
 
-// model is a desk that counts minute by minute and keeps all in lists.
+// model is a desk that keeps all in lists, goes through them whole at each line, and lets time go by minute by minute.
 type model struct {
-	names   []string
-	units   []int
-	entries []api.Entry
-	given   int
+	names      []string
+	units      []int
+	entries    []api.Entry // in the order of their numbers
+	given, now int
 }
 
-// do answers to a line whose words are given, numbers as ints.
-func (m *model) do(kind, name string, n ...int) api.Reply {
-	switch kind {
+// num is a word as a number; 0, if it is none.
+func num(word string) int {
+	n, _ := strconv.Atoi(word)
+	return n
+}
+
+func (m *model) do(line string) api.Reply {
+	words := strings.Fields(line)
+	switch words[0] {
 	case "thing":
-		return m.thing(name, n[0])
+		return m.thing(words[1], num(words[2]))
+	case "confirm":
+		return m.confirm(num(words[1]))
 	case "cancel":
-		return m.cancel(n[0])
+		return m.cancel(num(words[1]))
+	case "expand":
+		days, err := modelDays(words[1:])
+		return api.Reply{Err: err, N: len(days), Days: days}
+	case "tick":
+		return m.tick(num(words[1]))
 	case "clock":
-		return api.Reply{}
+		return number(m.now)
 	}
-	thing := slices.Index(m.names, name)
+	thing := slices.Index(m.names, words[1])
 	if thing < 0 {
 		return refusal(api.ErrName)
 	}
-	from, to := n[len(n)-2], n[len(n)-1]
-	if (kind == "book" || kind == "find") && n[0] > m.units[thing] {
-		return refusal(api.ErrUnits)
-	}
-	if from >= to {
-		return refusal(api.ErrTime)
-	}
-	switch kind {
-	case "book":
-		return m.book(thing, n[0], from, to)
+	return m.of(thing, words)
+}
+
+// of answers to a line that is about a thing.
+func (m *model) of(thing int, words []string) api.Reply {
+	name := m.names[thing]
+	switch words[0] {
 	case "list":
-		return m.list(name, from, to)
+		return m.list(name, words[2:])
 	case "peak":
+		from, to := num(words[2]), num(words[3])
+		if from >= to {
+			return refusal(api.ErrTime)
+		}
 		return number(m.peak(name, from, to))
 	}
-	for s := from; s+n[1] <= to; s++ {
-		if m.peak(name, s, s+n[1])+n[0] <= m.units[thing] {
-			return number(s)
-		}
+	if num(words[2]) > m.units[thing] {
+		return refusal(api.ErrUnits)
 	}
-	return number(-1)
+	switch words[0] {
+	case "find":
+		return m.find(thing, num(words[2]), num(words[3]), num(words[4]), num(words[5]))
+	case "series":
+		return m.series(thing, num(words[2]), words[3:])
+	}
+	entry := booked(0, name, num(words[2]), num(words[3]), num(words[4]))
+	if words[0] == "hold" {
+		entry.Kind, entry.Until = api.Held, m.now+num(words[5])
+	}
+	if entry.Spans[0].From >= entry.Spans[0].To || entry.Until > api.Horizon {
+		return refusal(api.ErrTime)
+	}
+	return m.enter(thing, entry)
 }
 
 func (m *model) thing(name string, units int) api.Reply {
@@ -67,45 +95,169 @@ func (m *model) thing(name string, units int) api.Reply {
 	return api.Reply{}
 }
 
-func (m *model) book(thing, units, from, to int) api.Reply {
+func (m *model) series(thing, units int, rule []string) api.Reply {
+	days, err := modelDays(rule)
+	if err != api.OK {
+		return refusal(err)
+	}
+	at, _ := time.Parse("15:04", rule[slices.Index(rule, "at")+1])
+	minutes := num(rule[slices.Index(rule, "for")+1])
+	entry := api.Entry{Kind: api.Booked, Thing: m.names[thing], Units: units}
+	for _, day := range days {
+		from := day*api.DayMinutes + at.Hour()*60 + at.Minute()
+		entry.Spans = append(entry.Spans, api.Span{From: from, To: from + minutes})
+	}
+	return m.enter(thing, entry)
+}
+
+// modelDays asks of each day whether it is one of the rule.
+func modelDays(words []string) ([]int, api.Errno) {
+	after := func(word string) string { return words[slices.Index(words, word)+1] }
+	first, _ := time.Parse(time.DateOnly, after("from"))
+	at, _ := time.Parse("15:04", after("at"))
+	last, times := first.AddDate(9, 0, 0), 0
+	if slices.Contains(words, "until") {
+		last, _ = time.Parse(time.DateOnly, after("until"))
+	} else {
+		times = num(after("times"))
+	}
+	var days []int
+	for day := range api.Days {
+		date := time.Date(2024, 1, 1+day, 0, 0, 0, 0, time.UTC)
+		if !date.Before(first) && !date.After(last) && (times == 0 || len(days) < times) && isOfRule(words, first, date) {
+			days = append(days, day)
+		}
+	}
+	if times > api.MaxSeries || len(days) > api.MaxSeries {
+		return nil, api.ErrMany
+	}
+	if len(days) == 0 || len(days) < times || days[len(days)-1]*api.DayMinutes+at.Hour()*60+at.Minute()+num(after("for")) > api.Horizon {
+		return nil, api.ErrTime
+	}
+	return days, api.OK
+}
+
+// isOfRule tells whether a date that is not ahead of the first is one of a rule without an end.
+func isOfRule(words []string, first, date time.Time) bool {
+	every := num(words[1])
+	switch words[0] {
+	case "weekly":
+		for first.Weekday() != time.Monday {
+			first = first.AddDate(0, 0, -1)
+		}
+		weeks := int(date.Sub(first).Hours()) / (7 * 24)
+		return weeks%every == 0 && strings.Contains(words[2], strings.ToLower(date.Weekday().String()[:2]))
+	case "monthly":
+		months := (date.Year()-first.Year())*12 + int(date.Month()) - int(first.Month())
+		return months%every == 0 && date.Day() == first.Day()
+	}
+	return int(date.Sub(first).Hours())/24%every == 0
+}
+
+func (m *model) enter(thing int, e api.Entry) api.Reply {
 	if m.given == api.MaxId {
 		return refusal(api.ErrFull)
 	}
-	if m.peak(m.names[thing], from, to)+units > m.units[thing] {
-		return refusal(api.ErrBusy)
+	before := m.entries
+	e.Id = m.given + 1
+	m.entries = append(slices.Clone(before), e)
+	for _, span := range e.Spans {
+		if m.peak(e.Thing, span.From, span.To) > m.units[thing] {
+			m.entries = before
+			return refusal(api.ErrBusy)
+		}
 	}
 	m.given++
-	m.entries = append(m.entries, booked(m.given, m.names[thing], units, from, to))
 	return number(m.given)
 }
 
-func (m *model) cancel(id int) api.Reply {
-	left := slices.DeleteFunc(slices.Clone(m.entries), func(e api.Entry) bool { return e.Id == id })
-	if len(left) == len(m.entries) {
+func (m *model) index(id int) int {
+	return slices.IndexFunc(m.entries, func(e api.Entry) bool { return e.Id == id })
+}
+
+func (m *model) confirm(id int) api.Reply {
+	i := m.index(id)
+	if i < 0 {
 		return refusal(api.ErrId)
 	}
-	m.entries = left
+	if m.entries[i].Kind != api.Held {
+		return refusal(api.ErrState)
+	}
+	m.entries[i].Kind, m.entries[i].Until = api.Booked, 0
 	return api.Reply{}
 }
 
-func (m *model) list(name string, from, to int) api.Reply {
+func (m *model) cancel(id int) api.Reply {
+	i := m.index(id)
+	if i < 0 {
+		return refusal(api.ErrId)
+	}
+	m.entries = slices.Delete(slices.Clone(m.entries), i, i+1)
+	return api.Reply{}
+}
+
+func (m *model) tick(minutes int) api.Reply {
+	if m.now+minutes > api.Horizon {
+		return refusal(api.ErrTime)
+	}
+	var gone []int
+	for range minutes {
+		m.now++
+		for i := 0; i < len(m.entries); i++ {
+			if m.entries[i].Until == m.now {
+				gone = append(gone, m.entries[i].Id)
+				m.entries = slices.Delete(slices.Clone(m.entries), i, i+1)
+				i--
+			}
+		}
+	}
+	return ended(m.now, gone...)
+}
+
+func (m *model) list(name string, times []string) api.Reply {
+	from, to := 0, api.Horizon
+	if len(times) > 0 {
+		from, to = num(times[0]), num(times[1])
+	}
+	if from >= to {
+		return refusal(api.ErrTime)
+	}
+	meets := func(s api.Span) bool { return s.From < to && from < s.To }
+	first := func(e api.Entry) int { return e.Spans[slices.IndexFunc(e.Spans, meets)].From }
 	var out []api.Entry
 	for _, e := range m.entries {
-		if e.Thing == name && e.Spans[0].From < to && from < e.Spans[0].To {
+		if e.Thing == name && slices.ContainsFunc(e.Spans, meets) {
 			out = append(out, e)
 		}
 	}
-	slices.SortStableFunc(out, func(a, b api.Entry) int { return a.Spans[0].From - b.Spans[0].From })
+	slices.SortFunc(out, func(a, b api.Entry) int { return cmp.Or(first(a)-first(b), a.Id-b.Id) })
 	return api.Reply{Entries: out}
 }
 
+// all are the spans of a thing, each so many times as it takes units.
+func (m *model) all(name string) []api.Span {
+	var out []api.Span
+	for _, e := range m.entries {
+		for range e.Units {
+			if e.Thing == name {
+				out = append(out, e.Spans...)
+			}
+		}
+	}
+	return out
+}
+
+// peak asks only at the first minute and at those at which a span begins: at no other is more taken than ahead of it.
 func (m *model) peak(name string, from, to int) int {
-	most := 0
-	for minute := from; minute < to; minute++ {
+	all, most := m.all(name), 0
+	for _, at := range append(all, api.Span{From: from}) {
+		if at.From < from || at.From >= to {
+			continue
+		}
 		taken := 0
-		for _, e := range m.entries {
-			if e.Thing == name && e.Spans[0].From <= minute && minute < e.Spans[0].To {
-				taken += e.Units
+		for _, s := range all {
+			if s.From <= at.From && at.From < s.To {
+				taken++
 			}
 		}
 		most = max(most, taken)
@@ -113,56 +265,122 @@ func (m *model) peak(name string, from, to int) int {
 	return most
 }
 
-// anyLine makes a line by chance, whose times lie within some minutes, and its words for the model.
-func anyLine(r *rand.Rand, base, minutes int) (string, string, []int) {
-	kind := []string{"book", "book", "book", "cancel", "cancel", "list", "peak", "find", "find", "thing", "clock"}[r.Intn(11)]
-	name := string(rune('a' + r.Intn(6)))
-	var n []int
-	switch kind {
-	case "clock":
-		return kind, name, nil
-	case "cancel":
-		n = []int{r.Intn(api.MaxId + 2)}
-		return fmt.Sprint(kind, " ", n[0]), name, n
-	case "thing", "book":
-		n = append(n, 1+r.Intn(5))
-	case "find":
-		n = append(n, 1+r.Intn(5), 1+r.Intn(9))
+// find tries only the first time and those at which a span ends: at any other there is room only if there is from a minute earlier on.
+func (m *model) find(thing, units, minutes, from, to int) api.Reply {
+	if from >= to {
+		return refusal(api.ErrTime)
 	}
-	if kind != "thing" {
-		from := r.Intn(minutes + 1)
-		n = append(n, base+from, base+min(minutes, from+r.Intn(12)-1+r.Intn(2)))
+	best := -1
+	for _, s := range append(m.all(m.names[thing]), api.Span{To: from}) {
+		if s.To < from || s.To+minutes > to || best >= 0 && best <= s.To {
+			continue
+		}
+		if m.peak(m.names[thing], s.To, s.To+minutes)+units <= m.units[thing] {
+			best = s.To
+		}
 	}
-	for i := range n {
-		n[i] = max(0, n[i])
-	}
-	return kind + " " + name + strings.TrimSuffix(" "+strings.Trim(fmt.Sprint(n), "[]"), " "), name, n
+	return number(best)
 }
 
-// P5 to P7, P10 and P11, P1: lines by chance, held against the model; a second desk is told each line in its plain form.
+// field is where the times of lines by chance lie: so many steps of so many minutes, from a base on.
+type field struct {
+	base, step, steps int
+}
+
+func (f field) span(r *rand.Rand) string {
+	from := r.Intn(f.steps + 1)
+	to := max(0, min(f.steps, from+r.Intn(12)-1))
+	return fmt.Sprint(f.base+from*f.step, " ", f.base+to*f.step)
+}
+
+func (f field) rule(r *rand.Rand) string {
+	day := func(most int) string {
+		number := min(api.Days-1, max(0, (f.base+r.Intn(f.steps)*f.step)/api.DayMinutes+r.Intn(most)-most/3))
+		return time.Date(2024, 1, 1+number, 0, 0, 0, 0, time.UTC).Format(time.DateOnly)
+	}
+	pace := fmt.Sprint([]string{"daily ", "weekly ", "monthly "}[r.Intn(3)], 1+r.Intn(1+r.Intn(4)))
+	if strings.HasPrefix(pace, "weekly") {
+		pace += " " + []string{"mo", "tu,su", "we,th,fr", "sa,mo", "su,sa,fr,th,we,tu,mo"}[r.Intn(5)]
+	}
+	at := (f.base + r.Intn(f.steps)*f.step) % api.DayMinutes
+	end := fmt.Sprint("times ", 1+r.Intn(1+r.Intn(8)))
+	switch r.Intn(8) {
+	case 0:
+		end = fmt.Sprint("times ", api.MaxSeries-3+r.Intn(8))
+	case 1:
+		end = "until " + day(400)
+	case 2, 3, 4:
+		end = "until " + day(30)
+	}
+	return fmt.Sprintf("%s from %s at %02d:%02d for %d %s", pace, day(3), at/60, at%60, 1+r.Intn(8)*f.step, end)
+}
+
+// line makes a line by chance.
+func (f field) line(r *rand.Rand) string {
+	name, units := string(rune('a'+r.Intn(6))), 1+r.Intn(5)
+	switch r.Intn(16) {
+	case 0:
+		return fmt.Sprint("thing ", name, " ", units)
+	case 1, 2:
+		return fmt.Sprint("book ", name, " ", units, " ", f.span(r))
+	case 3, 4, 5:
+		return fmt.Sprint("hold ", name, " ", units, " ", f.span(r), " ", 1+r.Intn(30))
+	case 6, 7:
+		return fmt.Sprint("series ", name, " ", 1+r.Intn(2), " ", f.rule(r))
+	case 8:
+		return "expand " + f.rule(r)
+	case 9:
+		return fmt.Sprint("confirm ", r.Intn(api.MaxId+2))
+	case 10:
+		return fmt.Sprint("cancel ", r.Intn(api.MaxId+2))
+	case 11:
+		return fmt.Sprint("tick ", 1+r.Intn(1+r.Intn(20)))
+	case 12:
+		return fmt.Sprint("list ", name, " ", f.span(r))
+	case 13:
+		return "list " + name
+	case 14:
+		return fmt.Sprint("peak ", name, " ", f.span(r))
+	}
+	return fmt.Sprint("find ", name, " ", units, " ", 1+r.Intn(9)*f.step, " ", f.span(r))
+}
+
+// P5 to P8, P10 and P11, P1: lines by chance, held against the model; a second desk is told each line in its plain form.
 func TestDeskAgainstModel(t *testing.T) {
-	const minutes = 40
-	for seed := range 120 {
+	fields := []field{{0, 1, 40}, {1000, 1, 40}, {api.Horizon/2 - 15, 1, 40}, {api.Horizon - 40, 1, 40}, {0, 240, 60}, {100000, 360, 80}, {api.Horizon - 14400, 360, 40}}
+	done := map[string]int{}
+	for seed := range 140 {
 		r := rand.New(rand.NewSource(int64(seed)))
-		base := []int{0, 1000, api.Horizon/2 - 15, api.Horizon - minutes}[seed%4]
+		f := fields[seed%len(fields)]
 		d, plain, m := bookings.New(), bookings.New(), &model{}
-		done := 0
-		for range 400 {
-			line, name, n := anyLine(r, base, minutes)
-			want := m.do(strings.Fields(line)[0], name, n...)
+		lines := []string{"thing a 4", "thing b 2"}
+		if seed%5 == 0 {
+			lines = append(lines, "tick 1048200")
+		}
+		for range 600 {
+			lines = append(lines, f.line(r))
+		}
+		for _, line := range lines {
+			want := m.do(line)
 			if got := d.Do(line); !sameReply(got, want) {
 				t.Fatalf("Do(%q) = %+v, want %+v", line, got, want)
-			}
-			if want.Err == api.OK {
-				done++
 			}
 			form, err, _ := bookings.Plain(line)
 			if got := plain.Do(form); err != api.OK || !sameReply(got, want) {
 				t.Fatalf("P11: Do(%q) = %+v, but its plain form %q: %+v", line, want, form, got)
 			}
+			done[fmt.Sprint(strings.Fields(line)[0], " ", want.Err)]++
+			if len(want.Ended) > 1 {
+				done["ended several"]++
+			}
 		}
-		if done < 80 {
-			t.Errorf("only %d lines were done", done)
+	}
+	for _, met := range []string{
+		"book 0", "book 8", "hold 0", "hold 6", "hold 8", "series 0", "series 5", "series 6", "series 8", "series 11",
+		"confirm 0", "confirm 9", "confirm 10", "cancel 0", "tick 0", "tick 6", "expand 0", "expand 6", "expand 11", "ended several",
+	} {
+		if done[met] < 20 {
+			t.Errorf("only %d times: %s", done[met], met)
 		}
 	}
 }

@@ -5,15 +5,18 @@ import (
 	"strings"
 
 	"bookings/api"
+	"bookings/ends"
 	"bookings/lines"
+	"bookings/rules"
 )
 
-// Desk is some things with what is booked of them, at a time.
+// Desk is some things with what is booked and held of them, at a time.
 type Desk struct {
 	now     int
 	given   int // how many numbers were given away: the last one
 	things  map[string]*thing
 	entries map[int]*entry
+	ending  ends.Heap[int, int, *entry] // of the entries those that are held
 }
 
 // New gives a desk without things, at the time 0.
@@ -28,6 +31,12 @@ func (d *Desk) Do(line lines.Line) api.Reply {
 		return d.thing(l)
 	case lines.Book:
 		return d.book(l)
+	case lines.Hold:
+		return d.hold(l)
+	case lines.Series:
+		return d.series(l)
+	case lines.Confirm:
+		return d.confirm(l)
 	case lines.Cancel:
 		return d.cancel(l)
 	case lines.List:
@@ -36,6 +45,10 @@ func (d *Desk) Do(line lines.Line) api.Reply {
 		return d.peak(l)
 	case lines.Find:
 		return d.find(l)
+	case lines.Expand:
+		return expand(l)
+	case lines.Tick:
+		return d.tick(l)
 	case lines.Clock:
 		return api.Reply{N: d.now}
 	}
@@ -53,33 +66,6 @@ func (d *Desk) thing(l lines.Thing) api.Reply {
 	// The name is a piece of the text that was read, and that is not to be kept.
 	name := strings.Clone(l.Name)
 	d.things[name] = &thing{name: name, units: l.Units}
-	return api.Reply{}
-}
-
-func (d *Desk) book(l lines.Book) api.Reply {
-	of, err := d.asked(l.Name, l.Units, l.Span)
-	if err != api.OK {
-		return refused(err)
-	}
-	if d.given >= api.MaxId {
-		return refused(api.ErrFull)
-	}
-	booked := &entry{id: d.given + 1, of: of, units: l.Units, spans: []api.Span{l.Span}}
-	if !of.take(booked) {
-		return refused(api.ErrBusy)
-	}
-	d.given = booked.id
-	d.entries[booked.id] = booked
-	return api.Reply{N: booked.id}
-}
-
-func (d *Desk) cancel(l lines.Cancel) api.Reply {
-	gone := d.entries[l.Id]
-	if gone == nil {
-		return refused(api.ErrId)
-	}
-	gone.of.release(gone)
-	delete(d.entries, gone.id)
 	return api.Reply{}
 }
 
@@ -115,17 +101,35 @@ func (d *Desk) find(l lines.Find) api.Reply {
 	return api.Reply{N: start}
 }
 
+func expand(l lines.Expand) api.Reply {
+	days, err := rules.Days(l.Rule)
+	if err != api.OK {
+		return refused(err)
+	}
+	return api.Reply{N: len(days), Days: days}
+}
+
 // asked gives the thing of which a line asks for so many units over a span (0, if it names none),
 // or the error that comes first.
 func (d *Desk) asked(name string, units int, span api.Span) (*thing, api.Errno) {
+	of, err := d.having(name, units)
+	if err != api.OK {
+		return nil, err
+	}
+	if span.From >= span.To {
+		return nil, api.ErrTime
+	}
+	return of, api.OK
+}
+
+// having gives the thing of that name, if it has so many units.
+func (d *Desk) having(name string, units int) (*thing, api.Errno) {
 	of := d.things[name]
 	switch {
 	case of == nil:
 		return nil, api.ErrName
 	case units > of.units:
 		return nil, api.ErrUnits
-	case span.From >= span.To:
-		return nil, api.ErrTime
 	}
 	return of, api.OK
 }

@@ -8,21 +8,13 @@ import (
 	"bookings/spans"
 )
 
-// thing is a thing, with all that is booked of it: as levels, for how much is taken, and as
+// thing is a thing, with all that is booked and held of it: as levels, for how much is taken, and as
 // spans, for what takes it.
 type thing struct {
 	name  string
 	units int
 	taken levels.Tree
 	spans spans.Tree[int, int, *entry]
-}
-
-// entry is what is booked of a thing. No two of its spans begin at one time, but they may overlap.
-type entry struct {
-	id    int
-	of    *thing
-	units int
-	spans []api.Span
 }
 
 // take takes what an entry asks for, or nothing, if it does not fit.
@@ -73,13 +65,4 @@ func (t *thing) list(within api.Span) []api.Entry {
 		}
 	}
 	return told
-}
-
-func (e *entry) isTold(as api.Entry) bool {
-	return as.Id == e.id
-}
-
-// tell gives the entry as it is told, with a list of its own.
-func (e *entry) tell() api.Entry {
-	return api.Entry{Id: e.id, Kind: api.Booked, Thing: e.of.name, Units: e.units, Spans: slices.Clone(e.spans)}
 }
