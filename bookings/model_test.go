@@ -29,7 +29,14 @@ func num(word string) int {
 }
 
 func (m *model) do(line string) api.Reply {
-	words := strings.Fields(line)
+	reply := m.answer(strings.Fields(line))
+	if reply.Err == api.OK {
+		reply.Granted = append(reply.Granted, m.grant()...)
+	}
+	return reply
+}
+
+func (m *model) answer(words []string) api.Reply {
 	switch words[0] {
 	case "thing":
 		return m.thing(words[1], num(words[2]))
@@ -42,6 +49,8 @@ func (m *model) do(line string) api.Reply {
 		return api.Reply{Err: err, N: len(days), Days: days}
 	case "tick":
 		return m.tick(num(words[1]))
+	case "waiting":
+		return entries(m.waiting()...)
 	case "clock":
 		return number(m.now)
 	}
@@ -75,13 +84,16 @@ func (m *model) of(thing int, words []string) api.Reply {
 		return m.series(thing, num(words[2]), words[3:])
 	}
 	entry := booked(0, name, num(words[2]), num(words[3]), num(words[4]))
-	if words[0] == "hold" {
+	switch words[0] {
+	case "hold":
 		entry.Kind, entry.Until = api.Held, m.now+num(words[5])
+	case "wait":
+		entry.Kind, entry.Until = api.Waiting, m.now+num(words[5])
 	}
 	if entry.Spans[0].From >= entry.Spans[0].To || entry.Until > api.Horizon {
 		return refusal(api.ErrTime)
 	}
-	return m.enter(thing, entry)
+	return m.enter(entry)
 }
 
 func (m *model) thing(name string, units int) api.Reply {
@@ -107,7 +119,7 @@ func (m *model) series(thing, units int, rule []string) api.Reply {
 		from := day*api.DayMinutes + at.Hour()*60 + at.Minute()
 		entry.Spans = append(entry.Spans, api.Span{From: from, To: from + minutes})
 	}
-	return m.enter(thing, entry)
+	return m.enter(entry)
 }
 
 // modelDays asks of each day whether it is one of the rule.
@@ -154,21 +166,40 @@ func isOfRule(words []string, first, date time.Time) bool {
 	return int(date.Sub(first).Hours())/24%every == 0
 }
 
-func (m *model) enter(thing int, e api.Entry) api.Reply {
-	if m.given == api.MaxId {
+func (m *model) enter(e api.Entry) api.Reply {
+	if m.given == api.MaxId || e.Kind == api.Waiting && len(m.waiting()) == api.MaxWaiting {
 		return refusal(api.ErrFull)
 	}
-	before := m.entries
-	e.Id = m.given + 1
-	m.entries = append(slices.Clone(before), e)
-	for _, span := range e.Spans {
-		if m.peak(e.Thing, span.From, span.To) > m.units[thing] {
-			m.entries = before
-			return refusal(api.ErrBusy)
-		}
+	if e.Kind != api.Waiting && !m.fits(e) {
+		return refusal(api.ErrBusy)
 	}
 	m.given++
+	e.Id = m.given
+	m.entries = append(slices.Clone(m.entries), e)
 	return number(m.given)
+}
+
+// fits tells whether there is room for an entry that takes nothing yet.
+func (m *model) fits(e api.Entry) bool {
+	e.Kind = api.Booked
+	with := &model{entries: append(slices.Clone(m.entries), e)}
+	units := m.units[slices.Index(m.names, e.Thing)]
+	return !slices.ContainsFunc(e.Spans, func(s api.Span) bool { return with.peak(e.Thing, s.From, s.To) > units })
+}
+
+func (m *model) waiting() []api.Entry {
+	return slices.DeleteFunc(slices.Clone(m.entries), func(e api.Entry) bool { return e.Kind != api.Waiting })
+}
+
+func (m *model) grant() []int {
+	var ids []int
+	for i := range m.entries {
+		if e := &m.entries[i]; e.Kind == api.Waiting && m.fits(*e) {
+			e.Kind, e.Until = api.Booked, 0
+			ids = append(ids, e.Id)
+		}
+	}
+	return ids
 }
 
 func (m *model) index(id int) int {
@@ -200,18 +231,23 @@ func (m *model) tick(minutes int) api.Reply {
 	if m.now+minutes > api.Horizon {
 		return refusal(api.ErrTime)
 	}
-	var gone []int
+	var reply api.Reply
 	for range minutes {
 		m.now++
+		before := len(m.entries)
 		for i := 0; i < len(m.entries); i++ {
 			if m.entries[i].Until == m.now {
-				gone = append(gone, m.entries[i].Id)
+				reply.Ended = append(reply.Ended, m.entries[i].Id)
 				m.entries = slices.Delete(slices.Clone(m.entries), i, i+1)
 				i--
 			}
 		}
+		if len(m.entries) < before {
+			reply.Granted = append(reply.Granted, m.grant()...)
+		}
 	}
-	return ended(m.now, gone...)
+	reply.N = m.now
+	return reply
 }
 
 func (m *model) list(name string, times []string) api.Reply {
@@ -226,7 +262,7 @@ func (m *model) list(name string, times []string) api.Reply {
 	first := func(e api.Entry) int { return e.Spans[slices.IndexFunc(e.Spans, meets)].From }
 	var out []api.Entry
 	for _, e := range m.entries {
-		if e.Thing == name && slices.ContainsFunc(e.Spans, meets) {
+		if e.Thing == name && e.Kind != api.Waiting && slices.ContainsFunc(e.Spans, meets) {
 			out = append(out, e)
 		}
 	}
@@ -234,12 +270,12 @@ func (m *model) list(name string, times []string) api.Reply {
 	return api.Reply{Entries: out}
 }
 
-// all are the spans of a thing, each so many times as it takes units.
+// all are the spans that take of a thing, each so many times as it takes units.
 func (m *model) all(name string) []api.Span {
 	var out []api.Span
 	for _, e := range m.entries {
 		for range e.Units {
-			if e.Thing == name {
+			if e.Thing == name && e.Kind != api.Waiting {
 				out = append(out, e.Spans...)
 			}
 		}
@@ -318,7 +354,7 @@ func (f field) rule(r *rand.Rand) string {
 // line makes a line by chance.
 func (f field) line(r *rand.Rand) string {
 	name, units := string(rune('a'+r.Intn(6))), 1+r.Intn(5)
-	switch r.Intn(16) {
+	switch r.Intn(22) {
 	case 0:
 		return fmt.Sprint("thing ", name, " ", units)
 	case 1, 2:
@@ -331,36 +367,67 @@ func (f field) line(r *rand.Rand) string {
 		return "expand " + f.rule(r)
 	case 9:
 		return fmt.Sprint("confirm ", r.Intn(api.MaxId+2))
-	case 10:
+	case 10, 11:
 		return fmt.Sprint("cancel ", r.Intn(api.MaxId+2))
-	case 11:
-		return fmt.Sprint("tick ", 1+r.Intn(1+r.Intn(20)))
 	case 12:
-		return fmt.Sprint("list ", name, " ", f.span(r))
+		return fmt.Sprint("tick ", 1+r.Intn(1+r.Intn(20)))
 	case 13:
-		return "list " + name
+		return fmt.Sprint("list ", name, " ", f.span(r))
 	case 14:
+		return "list " + name
+	case 15:
 		return fmt.Sprint("peak ", name, " ", f.span(r))
+	case 16, 17, 18:
+		return fmt.Sprint("wait ", name, " ", units, " ", f.span(r), " ", 1+r.Intn(60))
+	case 19:
+		return "waiting"
+	case 20:
+		return "clock"
 	}
 	return fmt.Sprint("find ", name, " ", units, " ", 1+r.Intn(9)*f.step, " ", f.span(r))
 }
 
-// P5 to P8, P10 and P11, P1: lines by chance, held against the model; a second desk is told each line in its plain form.
-func TestDeskAgainstModel(t *testing.T) {
+// crowd makes a line of those by which many come to wait for the same, where so many numbers may have been given away.
+func (f field) crowd(r *rand.Rand, numbers int) string {
+	name, from := string(rune('a'+r.Intn(2))), f.base+r.Intn(12)*f.step
+	switch r.Intn(9) {
+	case 0, 1:
+		return fmt.Sprint("hold ", name, " ", 1+r.Intn(4), " ", f.base, " ", f.base+14*f.step, " ", 1+r.Intn(40))
+	case 2, 3, 4:
+		return fmt.Sprint("wait ", name, " ", 1+r.Intn(2), " ", from, " ", from+(1+r.Intn(4))*f.step, " ", 1+r.Intn(90))
+	case 5:
+		return fmt.Sprint("book ", name, " 1 ", from, " ", from+(1+r.Intn(9))*f.step)
+	case 6, 7:
+		return fmt.Sprint("cancel ", 1+r.Intn(numbers))
+	}
+	return fmt.Sprint("tick ", 1+r.Intn(25))
+}
+
+// row makes a row of lines by chance, of every kind.
+func row(seed int) []string {
+	r := rand.New(rand.NewSource(int64(seed)))
 	fields := []field{{0, 1, 40}, {1000, 1, 40}, {api.Horizon/2 - 15, 1, 40}, {api.Horizon - 40, 1, 40}, {0, 240, 60}, {100000, 360, 80}, {api.Horizon - 14400, 360, 40}}
-	done := map[string]int{}
-	for seed := range 140 {
-		r := rand.New(rand.NewSource(int64(seed)))
-		f := fields[seed%len(fields)]
-		d, plain, m := bookings.New(), bookings.New(), &model{}
-		lines := []string{"thing a 4", "thing b 2"}
-		if seed%5 == 0 {
-			lines = append(lines, "tick 1048200")
-		}
-		for range 600 {
+	f := fields[seed%len(fields)]
+	lines := []string{"thing a 4", "thing b 2"}
+	if seed%5 == 0 {
+		lines = append(lines, "tick 1048200")
+	}
+	for i := range 600 {
+		if seed%2 == 0 && i%3 > 0 {
+			lines = append(lines, f.crowd(r, min(1+i/3, api.MaxId)))
+		} else {
 			lines = append(lines, f.line(r))
 		}
-		for _, line := range lines {
+	}
+	return lines
+}
+
+// P5 to P11, P1: lines by chance, held against the model; a second desk is told each line in its plain form.
+func TestDeskAgainstModel(t *testing.T) {
+	done := map[string]int{}
+	for seed := range 140 {
+		d, plain, m := bookings.New(), bookings.New(), &model{}
+		for _, line := range row(seed) {
 			want := m.do(line)
 			if got := d.Do(line); !sameReply(got, want) {
 				t.Fatalf("Do(%q) = %+v, want %+v", line, got, want)
@@ -369,14 +436,22 @@ func TestDeskAgainstModel(t *testing.T) {
 			if got := plain.Do(form); err != api.OK || !sameReply(got, want) {
 				t.Fatalf("P11: Do(%q) = %+v, but its plain form %q: %+v", line, want, form, got)
 			}
-			done[fmt.Sprint(strings.Fields(line)[0], " ", want.Err)]++
+			kind := strings.Fields(line)[0]
+			done[fmt.Sprint(kind, " ", want.Err)]++
 			if len(want.Ended) > 1 {
 				done["ended several"]++
+			}
+			if len(want.Granted) > 0 {
+				done["granted by "+kind]++
+			}
+			if len(want.Granted) > 1 {
+				done["granted several by "+kind]++
 			}
 		}
 	}
 	for _, met := range []string{
 		"book 0", "book 8", "hold 0", "hold 6", "hold 8", "series 0", "series 5", "series 6", "series 8", "series 11",
+		"wait 0", "wait 3", "wait 5", "wait 6", "wait 7", "waiting 0", "granted by wait", "granted by cancel", "granted by tick", "granted several by cancel", "granted several by tick",
 		"confirm 0", "confirm 9", "confirm 10", "cancel 0", "tick 0", "tick 6", "expand 0", "expand 6", "expand 11", "ended several",
 	} {
 		if done[met] < 20 {

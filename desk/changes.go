@@ -1,6 +1,8 @@
 package desk
 
 import (
+	"slices"
+
 	"bookings/api"
 	"bookings/lines"
 	"bookings/rules"
@@ -15,15 +17,24 @@ func (d *Desk) book(l lines.Book) api.Reply {
 }
 
 func (d *Desk) hold(l lines.Hold) api.Reply {
-	of, err := d.asked(l.Name, l.Units, l.Span)
+	return d.enterFor(api.Held, l.Claim, l.Minutes)
+}
+
+func (d *Desk) wait(l lines.Wait) api.Reply {
+	return d.enterFor(api.Waiting, l.Claim, l.Minutes)
+}
+
+// enterFor enters what stays for some minutes from now: what is held, or somebody who waits.
+func (d *Desk) enterFor(kind int, claim lines.Claim, minutes int) api.Reply {
+	of, err := d.asked(claim.Name, claim.Units, claim.Span)
 	if err != api.OK {
 		return refused(err)
 	}
-	until := d.now + l.Minutes
+	until := d.now + minutes
 	if until > api.Horizon {
 		return refused(api.ErrTime)
 	}
-	return d.enter(&entry{kind: api.Held, of: of, units: l.Units, spans: []api.Span{l.Span}, until: until})
+	return d.enter(&entry{kind: kind, of: of, units: claim.Units, spans: []api.Span{claim.Span}, until: until})
 }
 
 func (d *Desk) series(l lines.Series) api.Reply {
@@ -38,18 +49,20 @@ func (d *Desk) series(l lines.Series) api.Reply {
 	return d.enter(&entry{kind: api.Booked, of: of, units: l.Units, spans: rules.Spans(l.Rule, days)})
 }
 
-// enter gives an entry the next number and takes what it asks for, or refuses it.
+// enter gives an entry the next number and takes what it asks for, unless it waits; or refuses it.
 func (d *Desk) enter(e *entry) api.Reply {
-	if d.given >= api.MaxId {
+	if d.given >= api.MaxId || e.kind == api.Waiting && len(d.waiting) >= api.MaxWaiting {
 		return refused(api.ErrFull)
 	}
 	e.id = d.given + 1
-	if !e.of.take(e) {
+	if e.kind == api.Waiting {
+		d.waiting = append(d.waiting, e)
+	} else if !e.of.take(e) {
 		return refused(api.ErrBusy)
 	}
 	d.given = e.id
 	d.entries[e.id] = e
-	if e.kind == api.Held {
+	if e.kind != api.Booked {
 		d.ending.Put(e.until, e.id, e)
 	}
 	return api.Reply{N: e.id}
@@ -63,8 +76,7 @@ func (d *Desk) confirm(l lines.Confirm) api.Reply {
 	if held.kind != api.Held {
 		return refused(api.ErrState)
 	}
-	d.ending.Drop(held.until, held.id)
-	held.kind, held.until = api.Booked, 0
+	d.settle(held)
 	return api.Reply{}
 }
 
@@ -73,7 +85,7 @@ func (d *Desk) cancel(l lines.Cancel) api.Reply {
 	if gone == nil {
 		return refused(api.ErrId)
 	}
-	if gone.kind == api.Held {
+	if gone.kind != api.Booked {
 		d.ending.Drop(gone.until, gone.id)
 	}
 	d.leave(gone)
@@ -85,11 +97,21 @@ func (d *Desk) tick(l lines.Tick) api.Reply {
 	if then > api.Horizon {
 		return refused(api.ErrTime)
 	}
+	reply := api.Reply{N: then}
+	for {
+		// Between the times at which something ends nobody can come to fit, so time may go by from one to the next.
+		time, found := d.ending.First()
+		if !found || time > then {
+			break
+		}
+		reply.Ended = append(reply.Ended, d.endBy(time)...)
+		reply.Granted = append(reply.Granted, d.grant()...)
+	}
 	d.now = then
-	return api.Reply{N: then, Ended: d.endBy(then)}
+	return reply
 }
 
-// endBy ends what is held till a time or till an earlier one, and tells its numbers in the order of ending.
+// endBy ends what is held or waits till a time or till an earlier one, and tells its numbers in the order of ending.
 func (d *Desk) endBy(time int) []int {
 	var ended []int
 	for {
@@ -102,8 +124,32 @@ func (d *Desk) endBy(time int) []int {
 	}
 }
 
-// leave lets go what an entry took, and the entry.
+// grant books those who wait and fit, and tells their numbers. One look at each is enough: who is
+// booked only takes room, so that nobody who was passed over comes to fit.
+func (d *Desk) grant() []int {
+	var granted []int
+	for _, e := range d.waiting {
+		if e.of.take(e) {
+			d.settle(e)
+			granted = append(granted, e.id)
+		}
+	}
+	d.waiting = slices.DeleteFunc(d.waiting, (*entry).isBooked)
+	return granted
+}
+
+// settle makes a booking of what was held or waited: it does not end any more.
+func (d *Desk) settle(e *entry) {
+	d.ending.Drop(e.until, e.id)
+	e.kind, e.until = api.Booked, 0
+}
+
+// leave lets an entry go, with what it took: who waits took nothing.
 func (d *Desk) leave(e *entry) {
-	e.of.release(e)
 	delete(d.entries, e.id)
+	if e.kind != api.Waiting {
+		e.of.release(e)
+		return
+	}
+	d.waiting = slices.DeleteFunc(d.waiting, func(other *entry) bool { return other == e })
 }

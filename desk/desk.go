@@ -10,13 +10,14 @@ import (
 	"bookings/rules"
 )
 
-// Desk is some things with what is booked and held of them, at a time.
+// Desk is some things with what is booked and held of them and who waits for them, at a time.
 type Desk struct {
 	now     int
 	given   int // how many numbers were given away: the last one
 	things  map[string]*thing
 	entries map[int]*entry
-	ending  ends.Heap[int, int, *entry] // of the entries those that are held
+	waiting []*entry                    // of the entries those that wait, in the order in which they came
+	ending  ends.Heap[int, int, *entry] // of the entries those that are held or wait
 }
 
 // New gives a desk without things, at the time 0.
@@ -24,8 +25,16 @@ func New() *Desk {
 	return &Desk{things: map[string]*thing{}, entries: map[int]*entry{}}
 }
 
-// Do does what a line says, or answers an error and changes nothing.
+// Do does what a line says and then looks at those who wait, or answers an error and changes nothing.
 func (d *Desk) Do(line lines.Line) api.Reply {
+	reply := d.answer(line)
+	if reply.Err == api.OK {
+		reply.Granted = append(reply.Granted, d.grant()...)
+	}
+	return reply
+}
+
+func (d *Desk) answer(line lines.Line) api.Reply {
 	switch l := line.(type) {
 	case lines.Thing:
 		return d.thing(l)
@@ -33,6 +42,8 @@ func (d *Desk) Do(line lines.Line) api.Reply {
 		return d.book(l)
 	case lines.Hold:
 		return d.hold(l)
+	case lines.Wait:
+		return d.wait(l)
 	case lines.Series:
 		return d.series(l)
 	case lines.Confirm:
@@ -41,6 +52,8 @@ func (d *Desk) Do(line lines.Line) api.Reply {
 		return d.cancel(l)
 	case lines.List:
 		return d.list(l)
+	case lines.Waiting:
+		return api.Reply{Entries: d.tellWaiting()}
 	case lines.Peak:
 		return d.peak(l)
 	case lines.Find:
@@ -52,7 +65,7 @@ func (d *Desk) Do(line lines.Line) api.Reply {
 	case lines.Clock:
 		return api.Reply{N: d.now}
 	}
-	// The kinds of lines that are not built yet answer nothing.
+	// Of no other kind is a line that was read.
 	return api.Reply{}
 }
 
@@ -79,6 +92,14 @@ func (d *Desk) list(l lines.List) api.Reply {
 		return refused(err)
 	}
 	return api.Reply{Entries: of.list(span)}
+}
+
+func (d *Desk) tellWaiting() []api.Entry {
+	var told []api.Entry
+	for _, e := range d.waiting {
+		told = append(told, e.tell())
+	}
+	return told
 }
 
 func (d *Desk) peak(l lines.Peak) api.Reply {

@@ -6,7 +6,7 @@ import (
 	"bookings/api"
 )
 
-// entry is what is booked or held of a thing. No two of its spans begin at one time, but they may overlap.
+// entry is what is booked or held of a thing, or somebody who waits for it. No two of its spans begin at one time, but they may overlap.
 type entry struct {
 	id    int
 	kind  int
@@ -14,6 +14,10 @@ type entry struct {
 	units int
 	spans []api.Span // in order of From
 	until int        // 0, if it is booked
+}
+
+func (e *entry) isBooked() bool {
+	return e.kind == api.Booked
 }
 
 func (e *entry) isTold(as api.Entry) bool {

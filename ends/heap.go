@@ -24,9 +24,18 @@ func (h *Heap[T, N, V]) Put(time T, number N, value V) {
 	h.rise(len(h.items) - 1)
 }
 
+// First tells the time at which the first value ends; false, if there is none.
+func (h *Heap[T, N, V]) First() (T, bool) {
+	if len(h.items) == 0 {
+		var none T
+		return none, false
+	}
+	return h.items[0].time, true
+}
+
 // TakeBy takes the first value off, if it ends at that time or ahead of it.
 func (h *Heap[T, N, V]) TakeBy(time T) (V, bool) {
-	if len(h.items) == 0 || time < h.items[0].time {
+	if ends, found := h.First(); !found || time < ends {
 		var none V
 		return none, false
 	}

@@ -61,6 +61,9 @@ func TestHeapAgainstList(t *testing.T) {
 		if check(t, &heap); len(heap.items) != len(all) {
 			t.Fatalf("%d are kept, want %d", len(heap.items), len(all))
 		}
+		if first, found := heap.First(); found != (len(all) > 0) || found && first != all[0].time || !found && first != 0 {
+			t.Fatalf("First() = %d, %v, of %v", first, found, all)
+		}
 	}
 }
 
